@@ -1,0 +1,67 @@
+"""The interface: names, arguments, and where they are defined."""
+
+import ast
+import importlib
+import inspect
+import pathlib
+import unittest
+
+PACKAGE = pathlib.Path(__file__).resolve().parent.parent / "hookrow"
+
+FUNCTIONS = {
+    "bodies": {"check_body": "(hook, body, *, wraps=False)", "children": "(tree)", "count": "(tree)"},
+    "bodytexts": {"show_body": "(body)", "read_body": "(text)"},
+}
+CLASSES = {
+    "errors": {
+        "InvalidHook": "(word, name)", "InvalidBody": "(word, path)", "InvalidText": "(at)",
+        "InvalidPlugin": "(word, hook)", "InvalidCalls": "(name)", "BadCall": "(word, name)",
+        "Barred": "(hook, names)", "NoOrder": "(at)", "CallFailed": "(word, plugin)", "Taken": "(name)",
+        "NoHook": "(name)", "NoPlugin": "(name)", "NoKept": "(index)",
+    },
+    "hooks": {"Hook": "(name, kind, params, *, only=(), gives='number')"},
+}
+METHODS = {
+    ("hooks", "Hook"): {
+        "bind": "(self, args, named)", "__eq__": "(self, other)", "__str__": "(self)",
+        "__init__": "(self, name, kind, params, *, only=(), gives='number')",
+    },
+}
+
+
+def module(name):
+    return importlib.import_module(f"hookrow.{name}")
+
+
+class Interface(unittest.TestCase):
+    def test_functions(self):
+        for name, functions in FUNCTIONS.items():
+            for function, arguments in functions.items():
+                found = getattr(module(name), function)
+                self.assertEqual(str(inspect.signature(found)), arguments, function)
+                self.assertEqual(found.__module__, f"hookrow.{name}")
+
+    def test_classes(self):
+        for name, classes in CLASSES.items():
+            for kind, arguments in classes.items():
+                found = getattr(module(name), kind)
+                self.assertEqual(str(inspect.signature(found)), arguments, kind)
+                self.assertEqual(found.__module__, f"hookrow.{name}")
+
+    def test_methods_stand_in_the_class_itself(self):
+        for (name, kind), methods in METHODS.items():
+            for method, arguments in methods.items():
+                found = vars(getattr(module(name), kind))[method]
+                self.assertEqual(str(inspect.signature(found)), arguments, method)
+
+    def test_base_of_errors(self):
+        self.assertEqual(module("errors").HookError.__module__, "hookrow.errors")
+
+    def test_init_has_only_a_docstring(self):
+        rows = ast.parse((PACKAGE / "__init__.py").read_text()).body
+        self.assertEqual(len(rows), 1)
+        self.assertIsInstance(rows[0].value.value, str)
+
+
+if __name__ == "__main__":
+    unittest.main()

@@ -1,0 +1,199 @@
+"""The subset of Python that the package keeps to, as far as it can be seen in the code at once."""
+
+import ast
+import pathlib
+import re
+import unittest
+
+PACKAGE = pathlib.Path(__file__).resolve().parent.parent / "hookrow"
+FILES = sorted(path for path in PACKAGE.rglob("*") if "__pycache__" not in path.parts)
+TREES = {path: ast.parse(path.read_text()) for path in FILES if path.suffix == ".py"}
+
+BUILTINS = set(
+    "len range enumerate zip min max sum abs sorted reversed int str bool list tuple dict set isinstance ord repr any"
+    " all divmod pow getattr hasattr setattr iter next map Exception ValueError TypeError KeyError IndexError"
+    " LookupError ZeroDivisionError ArithmeticError OverflowError RuntimeError NotImplementedError AttributeError"
+    " StopIteration NotImplemented".split()
+)
+METHODS = set(
+    "append clear copy count endswith extend find get index insert isalnum isalpha isdigit islower isspace isupper"
+    " items join keys ljust lower lstrip partition pop remove replace reverse rfind rjust rpartition rsplit rstrip"
+    " setdefault split splitlines startswith strip update upper values zfill bit_length title capitalize swapcase"
+    " casefold center expandtabs removeprefix removesuffix rindex isascii isdecimal isnumeric istitle isidentifier"
+    " isprintable add discard".split()
+)
+BARRED_ATTRIBUTES = set(
+    "items keys values pop update append clear extend insert remove reverse setdefault sort args encode decode hex"
+    " fromhex format format_map mro".split()
+)
+BARRED_NAMES = set(
+    "register mro elements open input law version_info with_traceback add_note attrgetter breakpoint builtins compile"
+    " copyright credits delattr dir eval exec exit gc globals help id importlib license locals methodcaller os quit"
+    " super type vars sys hash filter format round".split()
+)
+LIBRARY = {
+    "heapq": "heappush heappop heapify heapreplace heappushpop", "math": "gcd lcm isqrt comb perm factorial",
+    "itertools": "product combinations permutations chain accumulate pairwise islice zip_longest",
+    "collections": "defaultdict",
+}
+STATEMENTS = (
+    ast.FunctionDef, ast.ClassDef, ast.Return, ast.Delete, ast.Assign, ast.AugAssign, ast.AnnAssign, ast.For,
+    ast.While, ast.If, ast.With, ast.Match, ast.Raise, ast.Try, ast.Assert, ast.ImportFrom, ast.Nonlocal, ast.Expr,
+    ast.Pass, ast.Break, ast.Continue,
+)
+
+
+def walk(kinds):
+    """All nodes of some kinds, with where they stand."""
+    for path, tree in TREES.items():
+        for node in ast.walk(tree):
+            if isinstance(node, kinds):
+                yield f"{path.name}:{getattr(node, 'lineno', 0)}", node
+
+
+def defined(kinds):
+    return {node.name for _, node in walk(kinds)}
+
+
+class Language(unittest.TestCase):
+    def test_files(self):
+        self.assertLessEqual(len(FILES), 100)
+        for path in FILES:
+            self.assertTrue(re.fullmatch("[a-z0-9_]+[.]py", path.name), path)
+            self.assertEqual(path.parent, PACKAGE)
+
+    def test_sizes_and_characters(self):
+        for path in TREES:
+            rows = path.read_bytes().decode("ascii").split("\n")
+            self.assertLessEqual(len(rows) - 1, 399, path)
+            self.assertEqual(rows[-1], "", path)
+            for at, row in enumerate(rows):
+                self.assertLessEqual(len(row), 120, f"{path}:{at + 1}")
+                self.assertTrue(all(" " <= sign <= "~" for sign in row), f"{path}:{at + 1}")
+        for place, node in walk(ast.FunctionDef):
+            self.assertLessEqual(node.end_lineno - node.lineno + 1, 40, place)
+
+    def test_imports(self):
+        edges = {}
+        for path, tree in TREES.items():
+            names = []
+            for node in tree.body:
+                if isinstance(node, ast.ImportFrom):
+                    self.assertEqual(node.level, 0)
+                    first, _, rest = node.module.partition(".")
+                    for alias in node.names:
+                        self.assertIsNone(alias.asname)
+                        names.append(alias.name)
+                        if first == "hookrow":
+                            there = TREES[PACKAGE / f"{rest}.py"]
+                            self.assertIn(alias.name, bound_at_module_level(there), path)
+                            edges.setdefault(path.stem, set()).add(rest)
+                        else:
+                            self.assertIn(alias.name, LIBRARY[node.module].split(), path)
+            names += bound_at_module_level(tree)
+            self.assertEqual(len(names), len(set(names)), path)
+        for _ in TREES:
+            edges = {name: others.union(*[edges.get(other, set()) for other in others]) for name, others in edges.items()}
+        for name, others in edges.items():
+            self.assertNotIn(name, others)
+
+    def test_statements(self):
+        for place, node in walk(ast.stmt):
+            self.assertIsInstance(node, STATEMENTS, place)
+        for path, tree in TREES.items():
+            for node in tree.body:
+                self.assertIsInstance(node, (ast.ImportFrom, ast.FunctionDef, ast.ClassDef, ast.Assign, ast.Expr), path)
+
+    def test_expressions(self):
+        for place, node in walk((ast.GeneratorExp, ast.Await, ast.Div, ast.MatMult)):
+            self.fail(place)
+        for place, node in walk(ast.Constant):
+            self.assertNotIsInstance(node.value, (float, complex), place)
+            if isinstance(node.value, str):
+                self.assertNotIn("%", node.value, place)
+                self.assertIsNone(re.match("__.*__$", node.value), place)
+
+    def test_decorators(self):
+        for place, node in walk(ast.ClassDef):
+            self.assertEqual(node.decorator_list, [], place)
+        for place, node in walk(ast.FunctionDef):
+            for decorator in node.decorator_list:
+                shown = ast.unparse(decorator)
+                self.assertTrue(shown in ("property", "staticmethod", "classmethod") or shown.endswith(".setter"), place)
+
+    def test_names(self):
+        own = defined((ast.FunctionDef, ast.ClassDef))
+        stored = {node.id for _, node in walk(ast.Name) if not isinstance(node.ctx, ast.Load)}
+        stored |= {node.arg for _, node in walk(ast.arg)}
+        for name in own | stored:
+            self.assertNotIn(name, BUILTINS)
+            if name not in {method.name for method in methods()}:
+                self.assertNotIn(name, BARRED_NAMES)
+            self.assertTrue(re.fullmatch("_?[A-Za-z][A-Za-z0-9_]*|__[a-z]+__|_", name), name)
+        imported = {alias.name for _, node in walk(ast.ImportFrom) for alias in node.names}
+        for place, node in walk(ast.Name):
+            known = own | stored | imported | BUILTINS | {"property", "staticmethod", "classmethod", "super"}
+            self.assertIn(node.id, known, place)
+
+    def test_no_local_name_is_a_class_or_an_import_of_its_file(self):
+        for path, tree in TREES.items():
+            taken = {node.name for node in tree.body if isinstance(node, ast.ClassDef)}
+            taken |= {alias.name for node in tree.body if isinstance(node, ast.ImportFrom) for alias in node.names}
+            for node in ast.walk(tree):
+                if isinstance(node, ast.Name) and not isinstance(node.ctx, ast.Load):
+                    self.assertNotIn(node.id, taken, f"{path}:{node.lineno}")
+                if isinstance(node, ast.arg):
+                    self.assertNotIn(node.arg, taken, f"{path}:{node.lineno}")
+
+    def test_methods_and_attributes(self):
+        own = {method.name for method in methods()}
+        for place, node in walk(ast.Call):
+            if isinstance(node.func, ast.Attribute):
+                self.assertTrue(node.func.attr in own | METHODS or node.func.attr == "__init__", place)
+        assigned = {node.attr for _, node in walk(ast.Attribute) if isinstance(node.ctx, ast.Store)}
+        self.assertEqual(assigned & BARRED_ATTRIBUTES, set())
+        called = {id(node.func) for _, node in walk(ast.Call)}
+        properties = {method.name for method in methods() if method.decorator_list}
+        for place, node in walk(ast.Attribute):
+            if id(node) not in called:
+                self.assertIn(node.attr, assigned | properties, place)
+        for place, node in walk(ast.ClassDef):
+            here = {method.name for method in node.body if isinstance(method, ast.FunctionDef)}
+            self.assertEqual(here & {each.attr for each in ast.walk(node)
+                                     if isinstance(each, ast.Attribute) and isinstance(each.ctx, ast.Store)}, set(), place)
+
+    def test_sets(self):
+        """Sets are only written where they are tested with `in`, sorted or measured."""
+        for path, tree in TREES.items():
+            fine = set()
+            for node in ast.walk(tree):
+                if isinstance(node, ast.Call) and isinstance(node.func, ast.Name) and node.func.id in ("sorted", "len"):
+                    fine.update(id(inside) for inside in ast.walk(node))
+                if isinstance(node, ast.Compare):
+                    fine.update(id(inside) for inside in ast.walk(node))
+            for node in ast.walk(tree):
+                if isinstance(node, (ast.Set, ast.SetComp)) or isinstance(node, ast.Name) and node.id == "set":
+                    self.assertIn(id(node), fine, f"{path}:{node.lineno}")
+
+    def test_is(self):
+        for place, node in walk(ast.Compare):
+            for operator, right in zip(node.ops, node.comparators):
+                if isinstance(operator, (ast.Is, ast.IsNot)):
+                    self.assertTrue(isinstance(right, ast.Constant) and right.value in (None, True, False), place)
+
+    def test_nothing_reads_the_world(self):
+        for place, node in walk(ast.Name):
+            self.assertNotIn(node.id, ("print", "open", "input"), place)
+
+
+def methods():
+    return [each for _, node in walk(ast.ClassDef) for each in node.body if isinstance(each, ast.FunctionDef)]
+
+
+def bound_at_module_level(tree):
+    names = [node.name for node in tree.body if isinstance(node, (ast.FunctionDef, ast.ClassDef))]
+    return names + [target.id for node in tree.body if isinstance(node, ast.Assign) for target in node.targets]
+
+
+if __name__ == "__main__":
+    unittest.main()
