@@ -10,7 +10,7 @@ _LENGTHS = {
     "most": 3, "is": 3, "not": 2, "both": 3, "either": 3, "lacks": 1, "ask": 4,
 }
 
-# How many trees stand directly inside a tree, behind its first item (an `ask` is not as regular).
+# How many trees follow the first item; `ask` is not here, since what is inside it is less regular.
 _BRANCHES = {"if": 3, "not": 1, "both": 2, "either": 2}
 
 # What may stand in a place depends on its role: "test"; "whole" for an expression where `ask` may stand;
