@@ -11,6 +11,7 @@ PACKAGE = pathlib.Path(__file__).resolve().parent.parent / "hookrow"
 FUNCTIONS = {
     "bodies": {"check_body": "(hook, body, *, wraps=False)", "children": "(tree)", "count": "(tree)"},
     "bodytexts": {"show_body": "(body)", "read_body": "(text)"},
+    "terms": {"written": "(term, calls)", "parting": "(one, other, calls)"},
 }
 CLASSES = {
     "errors": {
@@ -20,13 +21,35 @@ CLASSES = {
         "NoHook": "(name)", "NoPlugin": "(name)", "NoKept": "(index)",
     },
     "hooks": {"Hook": "(name, kind, params, *, only=(), gives='number')"},
+    "calls": {"Calls": "(hook, bounds=None)"},
+    "terms": {"Value": "(value)", "Moved": "(name, shift=0)", "Failure": "(word, plugin)"},
+    "rows": {"Row": "(names, pairs=())"},
+    "plugins": {
+        "Part": "(hook, body, *, before=(), after=(), layer='middle', wraps=False)", "Plugin": "(name, parts)",
+    },
 }
 METHODS = {
     ("hooks", "Hook"): {
         "bind": "(self, args, named)", "__eq__": "(self, other)", "__str__": "(self)",
         "__init__": "(self, name, kind, params, *, only=(), gives='number')",
     },
+    ("calls", "Calls"): {
+        "bound": "(self, name)", "within": "(self, other)", "where": "(self, test)", "__contains__": "(self, call)",
+        "__bool__": "(self)", "__and__": "(self, other)", "__sub__": "(self, other)", "__eq__": "(self, other)",
+    },
+    ("terms", "Value"): {"__call__": "(self, call)", "__eq__": "(self, other)", "__str__": "(self)"},
+    ("terms", "Moved"): {"__call__": "(self, call)", "__eq__": "(self, other)", "__str__": "(self)"},
+    ("terms", "Failure"): {"__call__": "(self, call)", "__eq__": "(self, other)", "__str__": "(self)"},
+    ("rows", "Row"): {
+        "keeps": "(self, order)", "ahead": "(self, one, other)", "chain": "(self, one, other)", "orders": "(self)",
+        "count": "(self, names=None)", "with_wish": "(self, one, other)", "without": "(self, name)",
+        "freed": "(self, name)", "within": "(self, other)", "exchanges": "(self, one, other)",
+        "free_at": "(self, order)", "__len__": "(self)", "__eq__": "(self, other)",
+    },
+    ("plugins", "Part"): {"__eq__": "(self, other)"},
+    ("plugins", "Plugin"): {"part": "(self, hook)", "__eq__": "(self, other)", "__str__": "(self)"},
 }
+PROPERTIES = {("calls", "Calls"): ["least"], ("rows", "Row"): ["ring", "order"]}
 
 
 def module(name):
@@ -53,6 +76,11 @@ class Interface(unittest.TestCase):
             for method, arguments in methods.items():
                 found = vars(getattr(module(name), kind))[method]
                 self.assertEqual(str(inspect.signature(found)), arguments, method)
+
+    def test_properties_stand_in_the_class_itself(self):
+        for (name, kind), properties in PROPERTIES.items():
+            for each in properties:
+                self.assertIsInstance(vars(getattr(module(name), kind))[each], property)
 
     def test_base_of_errors(self):
         self.assertEqual(module("errors").HookError.__module__, "hookrow.errors")

@@ -36,6 +36,10 @@ LIBRARY = {
     "itertools": "product combinations permutations chain accumulate pairwise islice zip_longest",
     "collections": "defaultdict",
 }
+DOUBLE = [f"__{name}__" for name in (
+    "init eq repr str len enter exit call iter lt le gt ge ne add sub mul floordiv mod pow and or xor lshift rshift"
+    " iadd isub neg pos invert abs bool contains getitem setitem".split()
+)]
 STATEMENTS = (
     ast.FunctionDef, ast.ClassDef, ast.Return, ast.Delete, ast.Assign, ast.AugAssign, ast.AnnAssign, ast.For,
     ast.While, ast.If, ast.With, ast.Match, ast.Raise, ast.Try, ast.Assert, ast.ImportFrom, ast.Nonlocal, ast.Expr,
@@ -180,6 +184,50 @@ class Language(unittest.TestCase):
             for operator, right in zip(node.ops, node.comparators):
                 if isinstance(operator, (ast.Is, ast.IsNot)):
                     self.assertTrue(isinstance(right, ast.Constant) and right.value in (None, True, False), place)
+
+    def test_double_underscore_methods(self):
+        for place, node in walk(ast.FunctionDef):
+            if node.name.startswith("__"):
+                self.assertIn(node.name, DOUBLE, place)
+                self.assertFalse([each for each in ast.walk(node) if isinstance(each, (ast.Yield, ast.YieldFrom))], place)
+        for place, method in [(method.lineno, method) for method in methods()]:
+            told = [ast.unparse(each.value) for each in ast.walk(method) if isinstance(each, ast.Return) and each.value]
+            if method.name == "__init__":
+                self.assertEqual(told, [], place)
+            if method.name == "__len__":
+                self.assertTrue(all(each.startswith("len(") for each in told), place)
+            if method.name in ("__str__", "__repr__"):
+                self.assertTrue(all(re.match("f?['\"]|str[(]|repr[(]", each) for each in told), place)
+
+    def test_operators_and_properties_assign_no_attributes(self):
+        changing = [f"__{name}__" for name in "init enter exit call iadd isub setitem".split()]
+        for place, method in [(method.lineno, method) for method in methods()]:
+            if method.decorator_list or method.name.startswith("__") and method.name not in changing:
+                for node in ast.walk(method):
+                    self.assertFalse(isinstance(node, ast.Attribute) and isinstance(node.ctx, ast.Store), place)
+                    self.assertNotIsInstance(node, ast.AugAssign, place)
+
+    def test_generators(self):
+        """The call of a generator is iterated at once, and nothing else has its name."""
+        made = [node.name for _, node in walk(ast.FunctionDef)]
+        names = {
+            node.name for _, node in walk(ast.FunctionDef)
+            if any(isinstance(each, (ast.Yield, ast.YieldFrom)) for each in ast.walk(node))
+        }
+        for name in names:
+            self.assertEqual(made.count(name), 1)
+            self.assertNotIn(name, METHODS)
+        iterated = {id(node.iter) for _, node in walk((ast.For, ast.comprehension))}
+        for place, node in walk(ast.Call):
+            called = node.func.attr if isinstance(node.func, ast.Attribute) else getattr(node.func, "id", None)
+            if called in names:
+                self.assertIn(id(node), iterated, place)
+
+    def test_reversed(self):
+        """Beside a class with an index, `reversed` takes what is plainly a list, tuple or range."""
+        for place, node in walk(ast.Call):
+            if isinstance(node.func, ast.Name) and node.func.id == "reversed":
+                self.assertRegex(ast.unparse(node.args[0]), "^(list|tuple|sorted|range)[(]", place)
 
     def test_nothing_reads_the_world(self):
         for place, node in walk(ast.Name):
