@@ -12,6 +12,18 @@ FUNCTIONS = {
     "bodies": {"check_body": "(hook, body, *, wraps=False)", "children": "(tree)", "count": "(tree)"},
     "bodytexts": {"show_body": "(body)", "read_body": "(text)"},
     "terms": {"written": "(term, calls)", "parting": "(one, other, calls)"},
+    "plugintexts": {"read_plugin": "(text)"},
+    "running": {"run": "(host, hook, call, *, order=None)", "trace": "(host, hook, call, *, order=None)"},
+    "results": {"results": "(host, hook, call)", "parted": "(host, hook, call)"},
+    "tables": {"table": "(host, hook)", "sure": "(host, hook)"},
+    "likeness": {"alike": "(host, other, hook)", "quiet": "(host, name)", "deciders": "(host, hook, call)"},
+    "settling": {"settle": "(host, hook, order)", "settled": "(host, hook, pairs)"},
+    "checker": {
+        "holds_ring": "(row, value)", "holds_chain": "(row, one, other, value)",
+        "holds_exchanges": "(row, one, other, value)", "holds_results": "(host, hook, call, value)",
+        "holds_parted": "(host, hook, call, value)", "holds_sure": "(host, hook, value)",
+        "holds_alike": "(host, other, hook, value)", "holds_settle": "(host, hook, order, value)",
+    },
 }
 CLASSES = {
     "errors": {
@@ -27,6 +39,8 @@ CLASSES = {
     "plugins": {
         "Part": "(hook, body, *, before=(), after=(), layer='middle', wraps=False)", "Plugin": "(name, parts)",
     },
+    "tables": {"Case": "(calls, results)"},
+    "hosts": {"Host": "(hooks)", "Trial": "(host)"},
 }
 METHODS = {
     ("hooks", "Hook"): {
@@ -48,8 +62,20 @@ METHODS = {
     },
     ("plugins", "Part"): {"__eq__": "(self, other)"},
     ("plugins", "Plugin"): {"part": "(self, hook)", "__eq__": "(self, other)", "__str__": "(self)"},
+    ("tables", "Case"): {"__call__": "(self, call)"},
+    ("hosts", "Host"): {
+        "hook_of": "(self, name)", "row": "(self, hook)", "add": "(self, plugin)", "drop": "(self, name)",
+        "undo": "(self)", "log": "(self)", "call": "(self, hook, *args, **named)", "keep": "(self, hook, call)",
+        "kept": "(self, index)", "trial": "(self)", "in_trial": "(self, work)", "__getitem__": "(self, name)",
+        "__setitem__": "(self, name, plugin)", "__contains__": "(self, name)", "__len__": "(self)",
+        "__iter__": "(self)", "__add__": "(self, plugin)", "__sub__": "(self, name)", "__iadd__": "(self, plugin)",
+        "__isub__": "(self, name)", "__eq__": "(self, other)",
+    },
+    ("hosts", "Trial"): {"__enter__": "(self)", "__exit__": "(self, kind, value, trace)"},
 }
-PROPERTIES = {("calls", "Calls"): ["least"], ("rows", "Row"): ["ring", "order"]}
+PROPERTIES = {
+    ("calls", "Calls"): ["least"], ("rows", "Row"): ["ring", "order"], ("hosts", "Host"): ["hooks", "by_age", "changed"],
+}
 
 
 def module(name):

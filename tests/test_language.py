@@ -219,9 +219,86 @@ class Language(unittest.TestCase):
             self.assertNotIn(name, METHODS)
         iterated = {id(node.iter) for _, node in walk((ast.For, ast.comprehension))}
         for place, node in walk(ast.Call):
+            if getattr(node.func, "id", None) in ("list", "tuple", "dict", "sorted", "enumerate") and node.args:
+                iterated.add(id(node.args[0]))
+        for place, node in walk(ast.Call):
             called = node.func.attr if isinstance(node.func, ast.Attribute) else getattr(node.func, "id", None)
             if called in names:
                 self.assertIn(id(node), iterated, place)
+
+    def test_no_yield_in_a_try_or_a_with(self):
+        for place, node in walk((ast.Try, ast.With)):
+            self.assertFalse([each for each in ast.walk(node) if isinstance(each, (ast.Yield, ast.YieldFrom))], place)
+
+    def test_nothing_is_changed_by_a_sign(self):
+        """Beside a class with `+=`, nothing else is changed so."""
+        for place, node in walk(ast.AugAssign):
+            self.fail(place)
+
+    def test_no_name_is_a_method_and_an_attribute(self):
+        assigned = {node.attr for _, node in walk(ast.Attribute) if isinstance(node.ctx, ast.Store)}
+        self.assertEqual(assigned & {method.name for method in methods()}, set())
+        generators = {
+            node.name for _, node in walk(ast.FunctionDef)
+            if any(isinstance(each, (ast.Yield, ast.YieldFrom)) for each in ast.walk(node))
+        }
+        called = {node.func.id for _, node in walk(ast.Call) if isinstance(node.func, ast.Name)}
+        stored = {node.id for _, node in walk(ast.Name) if not isinstance(node.ctx, ast.Load)}
+        self.assertEqual(stored & generators & called, set())
+
+    def test_methods_are_not_read_off_classes(self):
+        classes = defined(ast.ClassDef)
+        for place, node in walk(ast.Attribute):
+            self.assertFalse(isinstance(node.value, ast.Name) and node.value.id in classes, place)
+
+    def test_super(self):
+        """`super()` calls a plain method, directly in a method."""
+        calls = [node for _, node in walk(ast.Call) if getattr(node.func, "id", None) == "super"]
+        fine = {
+            id(node.func.value) for _, node in walk(ast.Call)
+            if isinstance(node.func, ast.Attribute) and not node.func.attr.startswith("__")
+        }
+        for node in calls:
+            self.assertIn(id(node), fine)
+            self.assertEqual(node.args, [])
+
+    def test_exit(self):
+        """The rows of `__exit__` only put back what was there, and ask nothing about an error."""
+        for method in methods():
+            if method.name == "__exit__":
+                self.assertEqual([each.arg for each in method.args.args], ["self", "kind", "value", "trace"])
+                for row in method.body:
+                    self.assertRegex(ast.unparse(row), "^(host = self[.][a-z_]+|host[.][a-z_]+ = self[.][a-z_]+)$")
+
+    def test_classes_with_an_index_are_iterated_over(self):
+        for place, node in walk(ast.ClassDef):
+            here = {method.name: method for method in node.body if isinstance(method, ast.FunctionDef)}
+            if "__getitem__" in here:
+                self.assertRegex(ast.unparse(here["__iter__"].body[-1]), "^return iter[(]self[.][a-z_]+[)]$")
+                self.assertEqual(len(here["__iter__"].body), 1)
+
+    def test_stars_in_calls(self):
+        """Beside `**` stands no keyword, and behind a star only a name or an attribute."""
+        for place, node in walk(ast.Call):
+            if any(keyword.arg is None for keyword in node.keywords):
+                self.assertEqual(len(node.keywords), 1, place)
+            for each in node.args:
+                if isinstance(each, ast.Starred):
+                    self.assertIsInstance(each.value, (ast.Name, ast.Attribute), place)
+
+    def test_errors_that_are_caught(self):
+        own = {node.name for _, node in walk(ast.ClassDef)}
+        for place, node in walk(ast.ExceptHandler):
+            self.assertIn(ast.unparse(node.type), own, place)
+
+    def test_loops_do_not_assign_what_they_go_over(self):
+        for place, node in walk(ast.For):
+            if isinstance(node.iter, ast.Name):
+                stored = {
+                    each.id for row in node.body for each in ast.walk(row)
+                    if isinstance(each, ast.Name) and not isinstance(each.ctx, ast.Load)
+                }
+                self.assertNotIn(node.iter.id, stored, place)
 
     def test_reversed(self):
         """Beside a class with an index, `reversed` takes what is plainly a list, tuple or range."""
