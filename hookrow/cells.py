@@ -15,7 +15,7 @@ def cells(scene, tried, start):
         play = todo.pop()
         found, fault = _found_in(play, tried)
         if fault is None:
-            yield play.calls, found
+            yield (play.calls, found)
         else:
             todo.extend(_halves(play, fault))
 

@@ -13,8 +13,8 @@ from hookrow.words import has_sort, is_integer
 def holds_ring(row, value):
     """Whether a thing could be `row.ring`."""
     ring = row.ring
-    if ring is None or value is None:
-        return ring is None and value is None
+    if ring is None:
+        return value is None
     if not _are_strings(value) or len(value) != len(ring) or not _is_way(row, (*value, value[0])):
         return False
     eldest = [name for name in row.names if name in value]
@@ -24,8 +24,8 @@ def holds_ring(row, value):
 def holds_chain(row, one, other, value):
     """Whether a thing could be `row.chain(one, other)`."""
     chain = row.chain(one, other)
-    if chain is None or value is None:
-        return chain is None and value is None
+    if chain is None:
+        return value is None
     if not _are_strings(value) or len(value) != len(chain) or not _is_way(row, value):
         return False
     return value[0] == one and value[-1] == other

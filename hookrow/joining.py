@@ -52,9 +52,9 @@ def _joined_line(line, name):
 
 
 def _rank(bound):
-    """Numbers come by their low ends; there is no need to rank words."""
-    first, _ = bound
-    return (1, first) if is_integer(first) else (0, 0)
+    """Numbers come by their low ends, and words that are left out ahead of words that are let in."""
+    first, second = bound
+    return (1, first) if is_integer(first) else (0, second)
 
 
 def _join(one, other, name):
@@ -70,23 +70,12 @@ def _join(one, other, name):
 
 
 def _united(one, other):
-    """The bound of the values that are within either of two bounds, which share none, or None if there is no such.
+    """The bound of the values within either of two bounds by rank, which share none; None if there is no such bound.
 
-    Of two bounds of numbers the lower one comes first.
+    So the first one of numbers has a high end, and the second one of words lets them in.
     """
-    if isinstance(one[1], bool):
-        return _united_words(one, other)
-    low, end = one
+    first, second = one
     start, high = other
-    if end is None or start != end + 1:
-        return None
-    return (low, high)
-
-
-def _united_words(one, other):
-    words, inside = one
-    others, beside = other
-    if inside and beside:
-        return (words + others, True)
-    left_out, let_in = (others, words) if inside else (words, others)
-    return ([word for word in left_out if word not in let_in], False)
+    if isinstance(second, bool):
+        return (first + start, True) if second else ([word for word in first if word not in start], False)
+    return (first, high) if start == second + 1 else None

@@ -16,7 +16,7 @@ from hookrow.rows import Row
 from hookrow.settling import settle, settled
 from hookrow.tables import sure
 from hookrow.terms import Failure, Moved, Value
-from hostmaker import LIST, PLAIN, SHADE, TINT, TRIM, drawn, grid, has_order, host_for, some_call
+from hostmaker import LIST, PLAIN, SHADE, TINT, TRIM, drawn, grid, has_order, host_for, made, some_call
 import reckoning
 from reckoning import typed
 
@@ -167,8 +167,8 @@ class OfRows(CheckerCase):
             right = shortest or [None]
             seen += len(right) > 1
             self.assertIn(row.ring, right)
-            turned = [(*ring[1:], ring[0]) for ring in rings]
-            self.check(lambda value: holds_ring(row, value), right, rings + turned, among(right))
+            others = list(itertools.permutations(row.names, len(rings[0]) if rings else 2))
+            self.check(lambda value: holds_ring(row, value), right, rings + others, among(right))
         self.assertGreater(seen, 3)
 
     def test_chains(self):
@@ -182,7 +182,8 @@ class OfRows(CheckerCase):
                 right = right or [None]
                 seen += len(right) > 1
                 self.assertIn(row.chain(one, other), right)
-                self.check(lambda value: holds_chain(row, one, other, value), right, ways(row, 2), among(right))
+                others = itertools.permutations(row.names, len(right[0] or "ab"))
+                self.check(lambda value: holds_chain(row, one, other, value), right, others, among(right))
         self.assertGreater(seen, 3)
 
     def test_exchanges(self):
@@ -190,15 +191,19 @@ class OfRows(CheckerCase):
         seen = 0
         for row in [Row("abc"), Row("abcd", [("a", "b")]), Row("abcd", [("d", "a"), ("b", "c")]), Row([]), Row("a")]:
             tried = list(row.orders())
-            for _ in range(6):
+            for _ in range(9):
                 one, other = rng.choice(tried), rng.choice(tried)
                 right = self.shortest(row, one, other)
                 seen += len(right) > 1
                 self.assertIn(row.exchanges(one, other), right)
                 back = [way[::-1] for way in right]
                 longer = [(one, *way) for way in right] + [(*way, way[-2], way[-1]) for way in right if len(way) > 1]
+                # Ways as long as the right ones that begin or end elsewhere, or have anything in between.
+                beside = [self.shortest(row, rng.choice(tried), other)[0] for _ in range(6)]
+                beside += [self.shortest(row, one, rng.choice(tried))[0] for _ in range(6)]
+                beside += [way[:at] + (order,) + way[at + 1:] for way in right for at in range(len(way)) for order in tried]
                 oracle = among(right)
-                self.check(lambda value: holds_exchanges(row, one, other, value), right, back + longer, oracle)
+                self.check(lambda value: holds_exchanges(row, one, other, value), right, back + longer + beside, oracle)
                 self.check(lambda value: holds_exchanges(row, list(one), list(other), value), right, [], oracle)
         self.assertGreater(seen, 3)
 
@@ -344,6 +349,12 @@ class OfHosts(CheckerCase):
                     lambda value: holds_alike(one, other, hook.name, value), [told], calls,
                     lambda value: self.right_alike(one, other, hook.name, told, value))
         self.assertGreater(min(counts.values()), 10)
+
+    def test_alike_where_one_set_is_part_of_the_other(self):
+        one, other = made(SHADE, ("number", 1)), made(SHADE, ("number", 1), ("number", 2))
+        for first, second in [(one, other), (other, one)]:
+            self.assertIs(holds_alike(first, second, "shade", {"size": 7}), True)
+            self.assertIs(holds_alike(first, second, "shade", None), False)
 
     def test_alike_with_rings(self):
         ring = Host([SHADE])

@@ -169,6 +169,25 @@ class Tables(TableCase):
         host = made(SHADE, ("if", test, ("number", 1), ("number", 2)))
         self.assertEqual(len(table(host, "shade")), 1)
 
+    def test_cells_of_words_that_agree_are_one_case(self):
+        hook = Hook("tint", "first", [("mode", "word")], gives="word")
+
+        def told_by(*answers):
+            """The bounds of the cases for a part that answers by the first words in turn, and last for all others."""
+            body = ("word", answers[-1])
+            for word, answer in zip("xyz", answers[:-1]):
+                body = ("if", ("is", "mode", word), ("word", answer), body)
+            cases, _ = self.check_host(made(hook, body), "tint", [{"mode": word} for word in "wxyz"])
+            self.check_apart(cases)
+            return sorted((str(case.results[0][0]), case.calls.bound("mode")) for case in cases)
+
+        self.assertEqual(told_by("a", "a", "a", "a"), [("'a", ((), False))])
+        self.assertEqual(told_by("a", "a", "b"), [("'a", (("x", "y"), True)), ("'b", (("x", "y"), False))])
+        self.assertEqual(told_by("a", "b", "b"), [("'a", (("x",), True)), ("'b", (("x",), False))])
+        self.assertEqual(told_by("b", "a", "b"), [("'a", (("y",), True)), ("'b", (("y",), False))])
+        self.assertEqual(
+            told_by("a", "b", "a", "c"), [("'a", (("x", "z"), True)), ("'b", (("y",), True)), ("'c", (("x", "y", "z"), False))])
+
     def test_no_order_gives_a_result_everywhere(self):
         """At each call both results are given, but by other orders: such calls are in two cases."""
         low = ("if", ("most", "size", 0), ("number", 1), ("number", 2))
