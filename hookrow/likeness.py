@@ -14,6 +14,9 @@ def alike(host, other, hook):
     if any(barred):
         return None if all(barred) else start.least
     one, two = scene_of(host, hook), scene_of(other, hook)
+    # Parts bring all wishes with them, and ages make no difference to the set of all orders.
+    if one.parts == two.parts:
+        return None
     tried, others = one.tried(), two.tried()
     for calls, found in cells(one, tried, start):
         for both, beside in cells(two, others, calls):
