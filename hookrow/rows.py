@@ -61,7 +61,8 @@ class Row:
         ways = {(): 1}
         for _ in row.names:
             longer = {}
-            for begun, many in ways.items():
+            # The loop walks a list of its own, since both names stand for the same dict in turn.
+            for begun, many in list(ways.items()):
                 for name in row._following(begun):
                     key = tuple(sorted((*begun, name)))
                     longer[key] = longer.get(key, 0) + many
@@ -121,7 +122,8 @@ def _way(pairs, one, other):
     ways = [(one,)]
     while ways:
         longer = []
-        for way in ways:
+        # The loop walks a list of its own, since both names stand for the same list in turn.
+        for way in list(ways):
             for name in [behind for before, behind in pairs if before == way[-1]]:
                 if name == other:
                     return (*way, name)

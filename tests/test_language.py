@@ -31,6 +31,7 @@ BARRED_NAMES = set(
     " copyright credits delattr dir eval exec exit gc globals help id importlib license locals methodcaller os quit"
     " super type vars sys hash filter format round".split()
 )
+CHANGING = set("append clear extend insert pop remove reverse setdefault update sort add discard".split())
 LIBRARY = {
     "heapq": "heappush heappop heapify heapreplace heappushpop", "math": "gcd lcm isqrt comb perm factorial",
     "itertools": "product combinations permutations chain accumulate pairwise islice zip_longest",
@@ -300,6 +301,46 @@ class Language(unittest.TestCase):
                 }
                 self.assertNotIn(node.iter.id, stored, place)
 
+    def test_loops_do_not_change_what_they_go_over(self):
+        """Nor what has the same name, attribute or item in another row of the function, by any row of assignments."""
+        for place, function in walk(ast.FunctionDef):
+            linked = links(function)
+            for loop in ast.walk(function):
+                if isinstance(loop, ast.For):
+                    walked, inside = [loop.iter], loop.body
+                elif isinstance(loop, (ast.ListComp, ast.SetComp, ast.DictComp, ast.GeneratorExp)):
+                    walked, inside = [each.iter for each in loop.generators], [loop]
+                else:
+                    continue
+                gone_over = reached([name for each in walked for name in named(each)], linked)
+                for row in inside:
+                    changed = [name for each in changed_in(row) for name in named(each)]
+                    self.assertEqual(reached(changed, linked) & gone_over, set(), f"{place}, row {row.lineno}")
+
+    def test_what_the_test_of_loops_sees(self):
+        rows = {
+            "for x in xs:\n  xs.append(x)": True,
+            "for x in list(xs):\n  xs.append(x)": False,
+            "for at, x in enumerate(xs):\n  xs[at] = 1": True,
+            "for x in xs.items():\n  del xs[x]": True,
+            "for x in xs:\n  for y in x:\n    ys.append(y)\nxs = ys": True,
+            "zs = ys\nfor x in xs if xs else ys:\n  zs.pop()": True,
+            "for x in self.xs:\n  other.xs.append(x)": True,
+            "for x in xs[0]:\n  xs[1].append(x)": True,
+            "for x in xs:\n  ys.append(x)\nxs = list(ys)": False,
+            "for x in xs:\n  ys.append(x)\nxs = ys + zs": False,
+            "a, b = xs, ys\nfor x in a:\n  b.append(x)": False,
+            "a, b = xs, ys\nfor x in a:\n  xs.append(x)": True,
+        }
+        for text, expected in rows.items():
+            tree = ast.parse(text)
+            linked = links(tree)
+            seen = [
+                reached(named(loop.iter), linked) & reached([name for each in changed_in(row) for name in named(each)], linked)
+                for loop in ast.walk(tree) if isinstance(loop, ast.For) for row in loop.body
+            ]
+            self.assertIs(any(seen), expected, text)
+
     def test_reversed(self):
         """Beside a class with an index, `reversed` takes what is plainly a list, tuple or range."""
         for place, node in walk(ast.Call):
@@ -313,6 +354,57 @@ class Language(unittest.TestCase):
 
 def methods():
     return [each for _, node in walk(ast.ClassDef) for each in node.body if isinstance(each, ast.FunctionDef)]
+
+
+def named(node):
+    """The names and attributes that an expression may stand for, where it makes nothing new."""
+    if isinstance(node, ast.Name):
+        return [node.id]
+    if isinstance(node, ast.Attribute):
+        return [f".{node.attr}"]
+    if isinstance(node, ast.Subscript):
+        return [] if isinstance(node.slice, ast.Slice) else named(node.value)
+    if isinstance(node, ast.IfExp):
+        return named(node.body) + named(node.orelse)
+    if isinstance(node, ast.BoolOp):
+        return [name for each in node.values for name in named(each)]
+    if isinstance(node, ast.Call) and getattr(node.func, "attr", None) in ("items", "keys", "values"):
+        return named(node.func.value)
+    if isinstance(node, ast.Call) and getattr(node.func, "id", None) in ("enumerate", "zip", "reversed", "iter"):
+        return [name for each in node.args for name in named(each)]
+    return []
+
+
+def links(tree):
+    """The pairs of names of which one is assigned to the other."""
+    pairs = []
+    for node in ast.walk(tree):
+        if isinstance(node, ast.Assign):
+            for target in node.targets:
+                if isinstance(target, ast.Tuple) and isinstance(node.value, ast.Tuple):
+                    pairs += zip(target.elts, node.value.elts)
+                else:
+                    pairs.append((target, node.value))
+    return [(one, other) for target, value in pairs for one in named(target) for other in named(value)]
+
+
+def reached(names, linked):
+    """The names, and all that pairs link with them."""
+    found = set(names)
+    for _ in linked:
+        for pair in linked:
+            if found & set(pair):
+                found.update(pair)
+    return found
+
+
+def changed_in(tree):
+    """What is changed in place somewhere in a row."""
+    for node in ast.walk(tree):
+        if isinstance(node, ast.Call) and getattr(node.func, "attr", None) in CHANGING:
+            yield node.func.value
+        if isinstance(node, ast.Subscript) and not isinstance(node.ctx, ast.Load):
+            yield node.value
 
 
 def bound_at_module_level(tree):
